@@ -1,0 +1,1 @@
+"""Lastrows: how many old rows an exact Krylov solver must keep."""
