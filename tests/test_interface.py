@@ -11,15 +11,26 @@ VECTOR = ["__len__", "__getitem__", "__add__", "__sub__", "__mul__", "__rmul__",
           "is_zero", "unit", "zero", "of", "read"]
 MATRIX = ["__getitem__", "__add__", "__sub__", "__mul__", "__rmul__", "__pow__", "__neg__", "__eq__", "__str__", "row",
           "column", "trace", "transpose", "is_zero", "is_symmetric", "identity", "zero", "diagonal", "columns", "read"]
+MEASURE = ["__add__", "__mul__", "__rmul__", "__eq__", "dot", "norm", "adjoint", "plain", "weights"]
+POLY = ["__len__", "__getitem__", "__add__", "__sub__", "__mul__", "__rmul__", "__floordiv__", "__pow__", "__neg__",
+        "__eq__", "__call__", "__str__", "remainder", "compose", "monic", "degree", "is_zero", "x", "constant", "of",
+        "read"]
 
 CLASSES = {
     "ratios": {"Ratio": RATIO},
     "vectors": {"Vector": VECTOR},
     "matrices": {"Matrix": MATRIX},
     "elimination": {"Solution": []},
+    "measures": {"Measure": MEASURE},
+    "polys": {"Poly": POLY},
 }
 FUNCTIONS = {
     "elimination": {"solve": ["matrix", "vector"], "rank": ["matrix"]},
+    "inverses": {"determinant": ["matrix"], "inverse": ["matrix"]},
+    "polys": {"common": ["p", "q"]},
+    "spaces": {"powers": ["a", "v", "count"], "annihilator": ["a", "v"], "grade": ["a", "v"]},
+    "cyclic": {"plain_start": ["size", "t"], "minimal_polynomial": ["a"], "base_start": ["a"],
+               "as_polynomial": ["a", "y"]},
 }
 
 
