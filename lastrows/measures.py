@@ -1,6 +1,6 @@
 """Measures: positive symmetric matrices, which give lengths and right angles."""
 
-from lastrows.errors import NotPositive, NotSymmetric, SizeMismatch
+from lastrows.errors import NotPositive, NotSymmetric
 from lastrows.inverses import inverse
 from lastrows.matrices import Matrix, check_square, from_rows
 from lastrows.ratios import Ratio, is_factor
@@ -22,8 +22,6 @@ class Measure:
     def __add__(self, other):
         if not isinstance(other, Measure):
             return NotImplemented
-        if self.size != other.size:
-            raise SizeMismatch(self.size, other.size)
         return Measure(self.matrix + other.matrix)
 
     def __mul__(self, other):
