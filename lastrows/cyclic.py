@@ -37,6 +37,11 @@ def base_start(a):
     return plain_start(a.height, t)
 
 
+def check_cyclic(a):
+    """Raises NotCyclic if the matrix is not cyclic."""
+    base_start(a)
+
+
 def as_polynomial(a, y):
     """Returns the polynomial p of a degree below the size for which `p(a) == y`, or None."""
     start = base_start(a)

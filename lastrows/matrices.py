@@ -28,8 +28,8 @@ class Matrix:
     def __add__(self, other):
         if not isinstance(other, Matrix):
             return NotImplemented
-        _check_sizes(self.height, other.height)
-        _check_sizes(self.width, other.width)
+        check_sizes(self.height, other.height)
+        check_sizes(self.width, other.width)
         rows = [
             [one * other.bottom + two * self.bottom for one, two in zip(left, right)]
             for left, right in zip(self.tops, other.tops)
@@ -73,13 +73,13 @@ class Matrix:
         return "; ".join([str(Vector(row, self.bottom)) for row in self.tops])
 
     def _times_matrix(self, other):
-        _check_sizes(self.width, other.height)
+        check_sizes(self.width, other.height)
         columns = list(zip(*other.tops))
         rows = [[sum_of_products(row, column) for column in columns] for row in self.tops]
         return Matrix(rows, self.bottom * other.bottom)
 
     def _times_vector(self, other):
-        _check_sizes(self.width, len(other))
+        check_sizes(self.width, len(other))
         return Vector([sum_of_products(row, other.tops) for row in self.tops], self.bottom * other.bottom)
 
     def _times_factor(self, other):
@@ -135,7 +135,7 @@ class Matrix:
     def columns(vectors):
         """Returns the matrix with the given vectors as its columns."""
         for vector in vectors:
-            _check_sizes(len(vectors[0]), len(vector))
+            check_sizes(len(vectors[0]), len(vector))
         return from_rows(vectors).transpose
 
     @staticmethod
@@ -157,14 +157,15 @@ def check_square(matrix):
         raise NotSquare(matrix.height, matrix.width)
 
 
+def check_sizes(left, right):
+    """Raises SizeMismatch if the two sizes differ."""
+    if left != right:
+        raise SizeMismatch(left, right)
+
+
 def _check_rows(rows):
     if len(rows) == 0 or len(rows[0]) == 0:
         raise Empty()
     for index, row in enumerate(rows):
         if len(row) != len(rows[0]):
             raise RaggedRows(index)
-
-
-def _check_sizes(left, right):
-    if left != right:
-        raise SizeMismatch(left, right)

@@ -4,7 +4,7 @@ from lastrows.errors import NotPositive, NotSymmetric
 from lastrows.inverses import inverse
 from lastrows.matrices import Matrix, check_square, from_rows
 from lastrows.ratios import Ratio, is_factor
-from lastrows.vectors import Vector
+from lastrows.vectors import Vector, without
 
 
 class Measure:
@@ -77,7 +77,7 @@ def _factors(matrix):
     for place in range(matrix.height):
         column = matrix.column(place)
         told = [column.dot(earlier).over(square) for earlier, square in zip(rows, squares)]
-        row = _without(Vector.unit(matrix.height, place), told, rows)
+        row = without(Vector.unit(matrix.height, place), told, rows)
         square = row.dot(matrix * row)
         if square.sign != 1:
             raise NotPositive(row)
@@ -85,10 +85,3 @@ def _factors(matrix):
         squares.append(square)
         shares.append(Vector.of(told + [Ratio(1)] + [Ratio(0)] * (matrix.height - place - 1)))
     return from_rows(shares), tuple(squares)
-
-
-def _without(vector, shares, rows):
-    rest = vector
-    for share, row in zip(shares, rows):
-        rest = rest - row * share
-    return rest

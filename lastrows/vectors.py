@@ -94,6 +94,14 @@ def sum_of_products(left, right):
     return sum([one * two for one, two in zip(left, right)])
 
 
+def without(thing, shares, others):
+    """Returns a vector or a polynomial minus each of the others times its share."""
+    rest = thing
+    for share, other in zip(shares, others):
+        rest = rest - other * share
+    return rest
+
+
 def _check_lengths(left, right):
     if len(left) != len(right):
         raise SizeMismatch(len(left), len(right))

@@ -5,7 +5,9 @@ import unittest
 from fractions import Fraction
 
 from lastrows.errors import LastrowsError
+from lastrows.inverses import determinant
 from lastrows.matrices import Matrix
+from lastrows.measures import Measure
 from lastrows.ratios import Ratio
 from lastrows.vectors import Vector
 
@@ -79,6 +81,123 @@ def some_vector(numbers, size, most=9):
 def some_matrix(numbers, height, width, most=9):
     rows = [[numbers.randint(-most, most) for _ in range(width)] for _ in range(height)]
     return Matrix(rows, numbers.randint(1, 4))
+
+
+def some_base(numbers, size, most=3):
+    """Returns a matrix that has an inverse."""
+    while True:
+        matrix = some_matrix(numbers, size, size, most)
+        if not determinant(matrix).is_zero:
+            return matrix
+
+
+def some_measure(numbers, size, most=4):
+    """Returns the measure of a matrix that has an inverse, multiplied by its transpose."""
+    base = some_base(numbers, size, most)
+    return Measure(base.transpose * base)
+
+
+def diagonal(*integers):
+    return Matrix.diagonal(*[Ratio(k) for k in integers])
+
+
+def cycle(size):
+    """Returns the matrix that sends each unit vector to the next one, and the last one to the first one."""
+    return Matrix([[1 if i == (j + 1) % size else 0 for j in range(size)] for i in range(size)])
+
+
+def lower_shift(size):
+    """Returns the matrix that sends each unit vector to the next one, and the last one to zero."""
+    return Matrix([[1 if i == j + 1 else 0 for j in range(size)] for i in range(size)])
+
+
+def companion(poly):
+    """Returns the matrix that sends each unit vector to the next one and has the monic polynomial as its minimal one."""
+    size = poly.degree
+    ends = Matrix.columns([Vector.zero(size)] * (size - 1) + [Vector.of([-poly[k] for k in range(size)])])
+    return lower_shift(size) + ends
+
+
+def some_cyclic(numbers, size, most=9):
+    while True:
+        matrix = some_matrix(numbers, size, size, most)
+        if is_cyclic(matrix):
+            return matrix
+
+
+def some_full(numbers, a, most=9):
+    """Returns a full start of a cyclic matrix."""
+    while True:
+        start = some_vector(numbers, a.height, most)
+        if is_full(a, start):
+            return start
+
+
+def is_cyclic(a):
+    """Tells by the powers of the matrix, each taken as one long row, whether its minimal polynomial is long."""
+    return slow_degree(a) == a.height
+
+
+def slow_degree(a):
+    """Returns the degree of the minimal polynomial by the powers of the matrix, each taken as one long row."""
+    rows = [sum(table(a ** k), []) for k in range(a.height + 1)]
+    return slow_rank(rows)
+
+
+def space(a, start, order):
+    """Returns the start, `a` times the start and so on as rows of fractions."""
+    rows = [entries(start)]
+    while len(rows) < order:
+        rows.append(slow_times(table(a), rows[-1]))
+    return rows[:order]
+
+
+def is_full(a, start):
+    return slow_rank(space(a, start, a.height)) == a.height
+
+
+def lies_in_space(a, vector, start, order):
+    """Tells whether a vector lies in the space of the order of a start."""
+    if order == 0:
+        return vector.is_zero
+    rows = space(a, start, order)
+    return slow_rank(rows + [entries(vector)]) == slow_rank(rows)
+
+
+def slow_times(rows, vector):
+    return [sum((one * two for one, two in zip(row, vector)), Fraction(0)) for row in rows]
+
+
+def slow_dot(weights, u, v):
+    """Returns the dot of two lists of fractions in the measure of a table."""
+    return sum((u[i] * weights[i][j] * v[j] for i in range(len(u)) for j in range(len(v))), Fraction(0))
+
+
+def slow_next(a, weights, rows):
+    """Returns the next row of rows of fractions, and the shares of these rows, by the sums of point 20."""
+    step = slow_times(a, rows[-1])
+    shares = [slow_dot(weights, step, row) / slow_dot(weights, row, row) for row in rows]
+    rest = [step[k] - sum(share * row[k] for share, row in zip(shares, rows)) for k in range(len(step))]
+    return rest, shares
+
+
+def slow_walk(a, measure, start):
+    """Returns the rows of a walk and their shares as lists of fractions."""
+    rows, shares = [], []
+    row = entries(start)
+    while any(row):
+        rows.append(row)
+        row, told = slow_next(table(a), table(measure.matrix), rows)
+        shares.append(told)
+    return rows, shares
+
+
+def slow_band(shares):
+    """Returns the least s for which all shares more than s places before the row are zero."""
+    band = 0
+    while any(any(told[:max(0, m - band)]) for m, told in enumerate(shares)):
+        band += 1
+    return band
 
 
 def slow_rank(rows):

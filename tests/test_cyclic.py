@@ -2,31 +2,19 @@
 
 from lastrows.cyclic import as_polynomial, base_start, minimal_polynomial, plain_start
 from lastrows.errors import NotCyclic
-from lastrows.inverses import determinant, inverse
+from lastrows.inverses import inverse
 from lastrows.matrices import Matrix
 from lastrows.polys import Poly
 from lastrows.ratios import Ratio
 from lastrows.spaces import annihilator, grade
 from lastrows.vectors import Vector
-from tests.support import Case, slow_rank, some_matrix, source, table
-
-
-def slow_degree(a):
-    """Returns the degree of the minimal polynomial by the powers of the matrix, each taken as one long row."""
-    rows = [sum(table(a ** k), []) for k in range(a.height + 1)]
-    return slow_rank(rows)
-
-
-def diagonal(*integers):
-    return Matrix.diagonal(*[Ratio(k) for k in integers])
+from tests.support import Case, diagonal, slow_degree, some_base, some_matrix, source
 
 
 def with_other_base(matrix, numbers):
     """Returns the matrix in another base, so that its minimal polynomial stays as it is."""
-    while True:
-        base = some_matrix(numbers, matrix.height, matrix.height, 3)
-        if not determinant(base).is_zero:
-            return inverse(base) * matrix * base
+    base = some_base(numbers, matrix.height)
+    return inverse(base) * matrix * base
 
 
 def samples():

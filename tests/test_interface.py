@@ -23,6 +23,25 @@ CLASSES = {
     "elimination": {"Solution": []},
     "measures": {"Measure": MEASURE},
     "polys": {"Poly": POLY},
+    "walks": {"Walk": ["__len__", "__iter__", "hessenberg", "band"]},
+    "reaches": {"Reach": ["holds"]},
+    "memories": {"Memory": ["holds"]},
+    "answers": {"AdjointAnswer": ["holds"], "TraceDiffers": ["holds"], "NoReturn": ["holds"], "TraceBar": ["holds"],
+                "Granted": ["holds"]},
+    "leastmemory": {"LeastMemory": []},
+    "sameness": {"SameSpaces": [], "OtherSpaces": []},
+    "tasks": {"Task": ["__str__", "read"]},
+}
+ARGUMENTS = {
+    "walks": {"Walk": ["a", "measure", "start"], "Walk.hessenberg": ["k"]},
+    "reaches": {"Reach": ["least", "poly", "start"], "Reach.holds": ["a", "y"]},
+    "memories": {"Memory": ["least", "poly", "start"], "Memory.holds": ["a", "measure"]},
+    "answers": {"AdjointAnswer": ["granted"], "TraceDiffers": ["power"], "NoReturn": [], "TraceBar": ["witness"],
+                "Granted": ["measure"], "AdjointAnswer.holds": ["a", "poly"], "TraceDiffers.holds": ["a", "poly"],
+                "NoReturn.holds": ["a", "poly"], "TraceBar.holds": ["a", "poly"], "Granted.holds": ["a", "poly"]},
+    "leastmemory": {"LeastMemory": ["least", "measure", "straight", "skew", "quadratic"]},
+    "sameness": {"SameSpaces": ["factor", "offset"], "OtherSpaces": ["start"]},
+    "tasks": {"Task": ["matrix", "side", "measure"]},
 }
 FUNCTIONS = {
     "elimination": {"solve": ["matrix", "vector"], "rank": ["matrix"]},
@@ -31,6 +50,16 @@ FUNCTIONS = {
     "spaces": {"powers": ["a", "v", "count"], "annihilator": ["a", "v"], "grade": ["a", "v"]},
     "cyclic": {"plain_start": ["size", "t"], "minimal_polynomial": ["a"], "base_start": ["a"],
                "as_polynomial": ["a", "y"]},
+    "rowmaking": {"next_row": ["a", "measure", "rows"], "walk_rows": ["a", "measure", "start"],
+                  "forgetful_rows": ["a", "measure", "start", "keep"]},
+    "grams": {"gram": ["measure", "vectors"], "gram_determinants": ["a", "measure", "start"]},
+    "reaches": {"reach": ["a", "y"]},
+    "memories": {"memory": ["a", "measure"]},
+    "answers": {"trace_table": ["a", "poly"]},
+    "adjoints": {"measure_with_adjoint": ["a", "poly"], "skew_poly": ["a"]},
+    "factors": {"adjoint_factor": ["a", "first", "second"], "measure_times": ["a", "measure", "poly"]},
+    "leastmemory": {"least_memory": ["a"], "only_quadratic": ["a"]},
+    "sameness": {"same_spaces": ["a", "c"], "same_walks": ["a", "first", "second"]},
 }
 
 
@@ -41,6 +70,15 @@ class InterfaceTest(Case):
                 found = getattr(importlib.import_module(f"lastrows.{module}"), name)
                 self.assertEqual(found.__module__, f"lastrows.{module}")
                 self.assertEqual([one for one in ["__init__", *methods] if one not in vars(found)], [], name)
+
+    def test_arguments_of_classes_and_methods(self):
+        for module, names in ARGUMENTS.items():
+            for name, arguments in names.items():
+                found = getattr(importlib.import_module(f"lastrows.{module}"), name.partition(".")[0])
+                if "." in name:
+                    found = vars(found)[name.partition(".")[2]]
+                known = [one for one in inspect.signature(found).parameters if one != "self"]
+                self.assertEqual(known, arguments, name)
 
     def test_functions_and_their_arguments(self):
         for module, functions in FUNCTIONS.items():

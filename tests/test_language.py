@@ -12,7 +12,7 @@ LIBRARY = {"math": {"gcd", "lcm", "isqrt", "comb", "perm", "factorial"}}
 BARRED = (ast.AsyncFunctionDef, ast.Await, ast.Global, ast.AnnAssign, ast.GeneratorExp, ast.Set, ast.SetComp, ast.Div,
           ast.MatMult, ast.TryStar, ast.Import)
 BUILTINS = set("""len range enumerate zip min max sum abs sorted reversed int str bool list tuple dict isinstance ord repr
-any all divmod ValueError TypeError NotImplemented staticmethod classmethod property""".split())
+iter any all divmod ValueError TypeError NotImplemented staticmethod classmethod property""".split())
 METHODS = set("""__init__ __eq__ __str__ __len__ __call__ __iter__ __add__ __sub__ __mul__ __rmul__ __floordiv__ __pow__
 __neg__ __abs__ __getitem__""".split())
 
@@ -33,6 +33,8 @@ def bound_names(tree):
         elif isinstance(node, ast.arg):
             found.add(node.arg)
         elif isinstance(node, ast.alias):
+            found.add(node.name)
+        elif isinstance(node, ast.ExceptHandler):
             found.add(node.name)
         elif isinstance(node, ast.Name) and isinstance(node.ctx, ast.Store):
             found.add(node.id)
@@ -83,10 +85,46 @@ class LanguageTest(unittest.TestCase):
             self.assertEqual(sorted(one for one in bound if one.startswith("__") and one not in METHODS), [], name)
             self.assertEqual(sorted(bound & set(dir(builtins)) - METHODS), [], name)
 
-    def test_own_values_that_are_indexed_are_not_iterated_over(self):
+    def test_own_values_that_are_indexed_have_an_iter(self):
         for name, text in sources():
             for node in ast.walk(ast.parse(text)):
                 if isinstance(node, ast.ClassDef):
                     methods = [one.name for one in node.body if isinstance(one, ast.FunctionDef)]
-                    self.assertEqual("__getitem__" in methods, "__iter__" in methods, f"{name}: {node.name}")
+                    self.assertTrue("__iter__" in methods or "__getitem__" not in methods, f"{name}: {node.name}")
                     self.assertEqual(len(methods), len(set(methods)), f"{name}: {node.name}")
+
+    def test_local_names_are_not_those_of_imports_and_classes(self):
+        for name, text in sources():
+            tree = ast.parse(text)
+            taken = {one.name for node in tree.body if isinstance(node, ast.ImportFrom) for one in node.names}
+            taken |= {node.name for node in tree.body if isinstance(node, ast.ClassDef)}
+            local = {node.arg for node in ast.walk(tree) if isinstance(node, ast.arg)}
+            local |= {node.id for node in ast.walk(tree)
+                      if isinstance(node, ast.Name) and isinstance(node.ctx, ast.Store)}
+            self.assertEqual(sorted(taken & local), [], name)
+
+    def test_attributes_are_not_methods(self):
+        methods, attributes = set(), set()
+        for _, text in sources():
+            for node in ast.walk(ast.parse(text)):
+                if isinstance(node, ast.ClassDef):
+                    methods |= {one.name for one in node.body if isinstance(one, ast.FunctionDef)}
+                elif isinstance(node, ast.Attribute) and isinstance(node.ctx, ast.Store):
+                    attributes.add(node.attr)
+        self.assertEqual(sorted(methods & attributes), [])
+
+    def test_generators_are_iterated_at_once(self):
+        generators = set()
+        for _, text in sources():
+            for node in ast.walk(ast.parse(text)):
+                if isinstance(node, ast.FunctionDef):
+                    if any(isinstance(one, (ast.Yield, ast.YieldFrom)) for one in ast.walk(node)):
+                        self.assertNotIn(node.name, generators)
+                        generators.add(node.name)
+        for name, text in sources():
+            tree = ast.parse(text)
+            iterated = [node.value for node in ast.walk(tree) if isinstance(node, ast.YieldFrom)]
+            iterated += [node.iter for node in ast.walk(tree) if isinstance(node, (ast.For, ast.comprehension))]
+            for node in ast.walk(tree):
+                if isinstance(node, ast.Call) and isinstance(node.func, ast.Name) and node.func.id in generators:
+                    self.assertIn(node, iterated, f"{name}: {node.lineno}")

@@ -6,15 +6,7 @@ from lastrows.matrices import Matrix
 from lastrows.measures import Measure
 from lastrows.ratios import Ratio
 from lastrows.vectors import Vector
-from tests.support import Case, some_matrix, some_vector, source
-
-
-def some_measure(numbers, size, most=4):
-    """Returns the measure of a matrix that has an inverse, multiplied by its transpose."""
-    while True:
-        matrix = some_matrix(numbers, size, size, most)
-        if not determinant(matrix).is_zero:
-            return Measure(matrix.transpose * matrix)
+from tests.support import Case, some_matrix, some_measure, some_vector, source
 
 
 class MakingTest(Case):
