@@ -19,9 +19,7 @@ class Task:
         self.size = matrix.height
 
     def __str__(self):
-        told = self.measure.matrix
-        measure = "plain" if told == Matrix.identity(self.size) else str(told)
-        return f"{self.matrix} | {self.side} | {measure}"
+        return f"{self.matrix} | {self.side} | {_written_measure(self.measure)}"
 
     @staticmethod
     def read(text):
@@ -32,6 +30,12 @@ class Task:
         matrix = Matrix.read(parts[0])
         side = Vector.read(parts[1])
         return Task(matrix, side, _read_measure(parts[2], matrix))
+
+
+def _written_measure(measure):
+    if measure.matrix == Matrix.identity(measure.size):
+        return "plain"
+    return str(measure.matrix)
 
 
 def _read_measure(text, matrix):

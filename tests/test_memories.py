@@ -143,6 +143,12 @@ class HoldsTest(Case):
         self.assertTrue(Memory(2, Poly([0, 0, 1]), start).holds(a, Measure.plain(3)))
         self.assertFalse(Memory(2, Poly([0, 0, 0, 0, 0, 1]), start).holds(a, Measure.plain(3)))
         self.assertFalse(Memory(5, Poly([0, 0, 0, 0, 0, 1]), start).holds(a, Measure.plain(3)))
+        for size in range(2, 6):
+            a, start = cycle(size), Vector.unit(size, 0)
+            long = Poly([-1] + [0] * (size - 2) + [1, 1])
+            self.assert_same(long(a), Measure.plain(size).adjoint(a))
+            self.assertFalse(Memory(size, long, start).holds(a, Measure.plain(size)))
+            self.assertFalse(Memory(size - 1, long, start).holds(a, Measure.plain(size)))
 
     def test_no_polynomial_where_there_is_one(self):
         self.assertFalse(Memory(2, None, Vector([1, 0, 0])).holds(cycle(3), Measure.plain(3)))

@@ -156,6 +156,8 @@ class HoldsTest(Case):
         self.assertFalse(Reach(1, Poly([0, 0, 0, 0, 1]), start).holds(a, a))
         self.assertFalse(Reach(4, Poly([0, 0, 0, 0, 1]), start).holds(a, a))
         self.assertFalse(Reach(0, Poly([0, 0, 0, 1]), None).holds(a, Matrix.identity(3)))
+        self.assertFalse(Reach(3, Poly([0, 0, 0, 1]), start).holds(a, Matrix.identity(3)))
+        self.assertFalse(Reach(3, Poly([0, 0, 0, 1]), None).holds(a, Matrix.identity(3)))
 
     def test_a_polynomial_that_agrees_on_the_start_alone(self):
         a, y = Matrix([[0, 0], [1, 0]]), Matrix([[1, 5], [1, 1]])
