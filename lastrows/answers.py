@@ -76,7 +76,7 @@ def trace_table(a, poly):
 
 def power_traces(a):
     """Returns the traces of the powers of the matrix from 0 to its size."""
-    return [power.trace() for power in _matrix_powers(a, a.height + 1)]
+    return tuple([power.trace() for power in _matrix_powers(a, a.height + 1)])
 
 
 def _matrix_powers(a, count):

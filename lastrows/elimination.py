@@ -22,8 +22,8 @@ class Echelon:
     """
 
     def __init__(self, rows, places, scale, turn):
-        self.rows = rows
-        self.places = places
+        self.rows = tuple([tuple(row) for row in rows])
+        self.places = tuple(places)
         self.scale = scale
         self.turn = turn
 

@@ -28,3 +28,8 @@ def inverse(matrix):
     if len(echelon.places) < size:
         raise Singular(solve(matrix, Vector.zero(size)).kernel[0])
     return Matrix([[top * matrix.bottom for top in row[size:]] for row in echelon.rows], echelon.scale)
+
+
+def check_regular(matrix):
+    """Raises Singular if the square matrix has no inverse."""
+    inverse(matrix)

@@ -37,11 +37,17 @@ class Walk:
 
     def hessenberg(self, k):
         """Returns the matrix of the first k shares, with ones right below the diagonal; k is from 1 to the grade."""
-        ends = [Ratio(1)] + [Ratio(0)] * k
-        return Matrix.columns([Vector.of((list(told) + ends)[:k]) for told in self.shares[:k]])
+        return hessenberg_of(self.shares[:k])
 
     @property
     def band(self):
         """How many rows before the last one are needed at most to make the next row."""
         needed = [m - i for m, told in enumerate(self.shares) for i, share in enumerate(told) if not share.is_zero]
         return max(needed, default=0)
+
+
+def hessenberg_of(shares):
+    """Returns the matrix with the given shares as the upper parts of its columns, and ones right below its diagonal."""
+    size = len(shares)
+    ends = [Ratio(1)] + [Ratio(0)] * size
+    return Matrix.columns([Vector.of((list(told) + ends)[:size]) for told in shares])

@@ -4,11 +4,12 @@ import random
 import unittest
 from fractions import Fraction
 
-from lastrows.errors import LastrowsError
+from lastrows.errors import LastrowsError, Singular
 from lastrows.inverses import determinant
 from lastrows.matrices import Matrix
 from lastrows.measures import Measure
 from lastrows.ratios import Ratio
+from lastrows.tasks import Task
 from lastrows.vectors import Vector
 
 
@@ -43,9 +44,33 @@ class Case(unittest.TestCase):
         self.assertEqual(str(thing), text)
         self.assert_same(type(thing).read(text), thing)
 
+    def assert_told_twice(self, call):
+        """Checks that two calls give equal things, down to the attributes of objects, and returns the first one."""
+        first = call()
+        self.assertEqual(described(first), described(call()))
+        return first
+
+    def assert_singular(self, matrix, call, *args, **more):
+        """Checks that a call raises Singular with a witness that the matrix sends to zero."""
+        error = self.caught(Singular, call, *args, **more)
+        self.assertFalse(error.witness.is_zero)
+        self.assert_same(matrix * error.witness, Vector.zero(matrix.width))
+        self.assertEqual(described(self.caught(Singular, call, *args, **more)), described(error))
+
     def assert_made_anew(self, thing):
         """Checks that a value with tops and a bottom is equal to the one that is made from them."""
         self.assert_same(type(thing)(thing.tops, thing.bottom), thing)
+
+
+def described(thing):
+    """Returns an object as nested tuples of the names of its class, its bases and its attributes; no list is let pass."""
+    if isinstance(thing, tuple):
+        return tuple(described(part) for part in thing)
+    if hasattr(thing, "__dict__"):
+        return type(thing).__name__, tuple((name, described(part)) for name, part in sorted(vars(thing).items()))
+    if thing is not None and not isinstance(thing, (int, str)):
+        raise AssertionError(f"neither a plain value nor an object of the package: {thing!r}")
+    return thing
 
 
 def fraction(ratio):
@@ -88,6 +113,19 @@ def some_base(numbers, size, most=3):
     while True:
         matrix = some_matrix(numbers, size, size, most)
         if not determinant(matrix).is_zero:
+            return matrix
+
+
+def some_task(numbers, size, most=4):
+    """Returns a task whose matrix has an inverse, with a measure that is not plain."""
+    return Task(some_base(numbers, size, most), some_vector(numbers, size), some_measure(numbers, size))
+
+
+def some_singular(numbers, size):
+    """Returns a matrix that has no inverse and is not zero."""
+    while True:
+        matrix = some_matrix(numbers, size, size - 1) * some_matrix(numbers, size - 1, size)
+        if not matrix.is_zero:
             return matrix
 
 
@@ -227,3 +265,31 @@ def slow_determinant(rows):
             minor = [row[:column] + row[column + 1:] for row in rows[1:]]
             total += (-1) ** column * top * slow_determinant(minor)
     return total
+
+
+def slow_solve(rows, wanted):
+    """Returns the one solution of a square system of fractions, or None if there is none or more than one."""
+    lines = [list(row) + [end] for row, end in zip(rows, wanted)]
+    for column in range(len(lines)):
+        lead = next((line for line in lines[column:] if line[column] != 0), None)
+        if lead is None:
+            return None
+        lines.remove(lead)
+        lines.insert(column, [number / lead[column] for number in lead])
+        for k, line in enumerate(lines):
+            if k != column:
+                lines[k] = [one - line[column] * two for one, two in zip(line, lines[column])]
+    return [line[-1] for line in lines]
+
+
+def minus(left, right):
+    return [one - two for one, two in zip(left, right)]
+
+
+def plus(left, right, factor=1):
+    """Returns the left row plus the factor times the right row."""
+    return [one + factor * two for one, two in zip(left, right)]
+
+
+def flipped(rows):
+    return [list(column) for column in zip(*rows)]

@@ -31,6 +31,15 @@ CLASSES = {
     "leastmemory": {"LeastMemory": []},
     "sameness": {"SameSpaces": [], "OtherSpaces": []},
     "tasks": {"Task": ["__str__", "read"]},
+    "steps": {"Step": [], "EnergyStep": []},
+    "solvers": {"Solver": [], "LeastSolver": ["steps"], "OrthogonalSolver": ["steps"]},
+    "energy": {"EnergySolver": ["steps"]},
+    "states": {"State": []},
+    "courses": {"Course": []},
+    "twosided": {"TwoSided": ["slants", "answer_at"]},
+    "changes": {"Back": ["lead"], "Change": []},
+    "history": {"History": ["__len__", "__iter__", "apply", "undo", "present", "origin", "lead"]},
+    "desk": {"Desk": ["run", "present", "names", "lines_run"]},
 }
 ARGUMENTS = {
     "walks": {"Walk": ["a", "measure", "start"], "Walk.hessenberg": ["k"]},
@@ -41,7 +50,19 @@ ARGUMENTS = {
                 "NoReturn.holds": ["a", "poly"], "TraceBar.holds": ["a", "poly"], "Granted.holds": ["a", "poly"]},
     "leastmemory": {"LeastMemory": ["least", "measure", "straight", "skew", "quadratic"]},
     "sameness": {"SameSpaces": ["factor", "offset"], "OtherSpaces": ["start"]},
-    "tasks": {"Task": ["matrix", "side", "measure"]},
+    "tasks": {"Task": ["matrix", "side", "measure"], "Task.read": ["text"]},
+    "steps": {"Step": ["count", "answer", "residual", "square"],
+              "EnergyStep": ["count", "answer", "residual", "square", "energy", "error"]},
+    "solvers": {"Solver": ["task"], "LeastSolver": ["task"], "OrthogonalSolver": ["task"], "LeastSolver.steps": [],
+                "OrthogonalSolver.steps": []},
+    "energy": {"EnergySolver": ["task"], "EnergySolver.steps": []},
+    "states": {"State": ["count", "answer", "residual", "kept"]},
+    "courses": {"Course": ["polys", "curve"]},
+    "twosided": {"TwoSided": ["matrix", "side", "partner"], "TwoSided.slants": ["k"], "TwoSided.answer_at": ["k"]},
+    "changes": {"Back": ["matrix", "vector"], "Back.lead": ["x"], "Change": ["name", "task", "back"]},
+    "history": {"History": ["task"], "History.apply": ["name", "argument"], "History.undo": [], "History.present": [],
+                "History.origin": [], "History.lead": ["x"]},
+    "desk": {"Desk": [], "Desk.run": ["text"], "Desk.present": [], "Desk.names": []},
 }
 FUNCTIONS = {
     "elimination": {"solve": ["matrix", "vector"], "rank": ["matrix"]},
@@ -60,6 +81,14 @@ FUNCTIONS = {
     "factors": {"adjoint_factor": ["a", "first", "second"], "measure_times": ["a", "measure", "poly"]},
     "leastmemory": {"least_memory": ["a"], "only_quadratic": ["a"]},
     "sameness": {"same_spaces": ["a", "c"], "same_walks": ["a", "first", "second"]},
+    "states": {"first_state": ["task"], "advance": ["task", "state", "keep", "way"]},
+    "restarts": {"restart": ["task", "every", "rounds"], "moving_side": ["a", "measure"]},
+    "courses": {"course_of": ["task"], "task_of": ["course"]},
+    "twosided": {"moments": ["matrix", "side", "partner", "count"]},
+    "halting": {"halting_side": ["a", "partner"]},
+    "changes": {"shift": ["task", "ratio"], "scale": ["task", "ratio"], "turn": ["task", "matrix"],
+                "remeasure": ["task", "measure"], "guess": ["task", "vector"], "ahead": ["task", "poly"],
+                "normal": ["task"], "flip": ["task"]},
 }
 
 

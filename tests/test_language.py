@@ -114,17 +114,34 @@ class LanguageTest(unittest.TestCase):
         self.assertEqual(sorted(methods & attributes), [])
 
     def test_generators_are_iterated_at_once(self):
-        generators = set()
+        generators, others = set(), set()
         for _, text in sources():
             for node in ast.walk(ast.parse(text)):
                 if isinstance(node, ast.FunctionDef):
-                    if any(isinstance(one, (ast.Yield, ast.YieldFrom)) for one in ast.walk(node)):
-                        self.assertNotIn(node.name, generators)
-                        generators.add(node.name)
+                    yields = any(isinstance(one, (ast.Yield, ast.YieldFrom)) for one in ast.walk(node))
+                    (generators if yields else others).add(node.name)
+        self.assertEqual(generators, {"walk_rows", "forgetful_rows", "steps"})
+        self.assertEqual(generators & others, set())
         for name, text in sources():
             tree = ast.parse(text)
             iterated = [node.value for node in ast.walk(tree) if isinstance(node, ast.YieldFrom)]
             iterated += [node.iter for node in ast.walk(tree) if isinstance(node, (ast.For, ast.comprehension))]
+            iterated += [node.args[0] for node in ast.walk(tree) if isinstance(node, ast.Call) and node.args
+                         and isinstance(node.func, ast.Name) and node.func.id in ("list", "tuple")]
             for node in ast.walk(tree):
-                if isinstance(node, ast.Call) and isinstance(node.func, ast.Name) and node.func.id in generators:
-                    self.assertIn(node, iterated, f"{name}: {node.lineno}")
+                if isinstance(node, ast.Call):
+                    called = node.func.id if isinstance(node.func, ast.Name) else getattr(node.func, "attr", "")
+                    self.assertTrue(called not in generators or node in iterated, f"{name}: {node.lineno}")
+
+    def test_tables_are_read_in_their_own_file_only(self):
+        for name, text in sources():
+            tree = ast.parse(text)
+            tables = [one.id for node in tree.body if isinstance(node, ast.Assign) for one in node.targets
+                      if isinstance(node.value, (ast.Dict, ast.List))]
+            read = [node.value.id for node in ast.walk(tree) if isinstance(node, ast.Subscript)
+                    and isinstance(node.value, ast.Name)]
+            tested = [node.comparators[0].id for node in ast.walk(tree) if isinstance(node, ast.Compare)
+                      and isinstance(node.ops[0], (ast.In, ast.NotIn)) and isinstance(node.comparators[0], ast.Name)]
+            used = [node.id for node in ast.walk(tree) if isinstance(node, ast.Name) and isinstance(node.ctx, ast.Load)]
+            for table in tables:
+                self.assertEqual(used.count(table), read.count(table) + tested.count(table), f"{name}: {table}")
