@@ -14,6 +14,7 @@ _COUNTS = ("1", "2", "3", "4", "5", "6")
 _RESTART_COUNTS = ("1", "2")
 
 
+# The table of the readers needs functions of its own, since static methods are called off their classes only.
 def _read_task(text):
     return Task.read(text)
 

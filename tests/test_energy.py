@@ -1,7 +1,5 @@
 """Point 40: the solver for the least energy."""
 
-import inspect
-
 from lastrows.energy import EnergySolver
 from lastrows.errors import NotPositive, NotSelfAdjoint
 from lastrows.inverses import inverse
@@ -9,12 +7,12 @@ from lastrows.matrices import Matrix
 from lastrows.measures import Measure
 from lastrows.ratios import Ratio
 from lastrows.solvers import LeastSolver, Solver
-from lastrows.spaces import grade
 from lastrows.steps import EnergyStep, Step
 from lastrows.tasks import Task
 from lastrows.vectors import Vector
-from tests.support import (Case, cycle, diagonal, entries, fraction, lies_in_space, minus, slow_dot, slow_solve,
-                           slow_times, some_matrix, some_measure, some_singular, some_vector, source, space, table)
+from tests.support import (Case, cycle, diagonal, entries, fraction, minus, slow_dot, slow_solve, slow_times,
+                           some_matrix, some_measure, some_singular, some_vector, source, space, table)
+from tests.test_solvers import StepsCase
 
 
 def energetic(measure, positive):
@@ -36,30 +34,22 @@ def samples(seed):
         yield Task(energetic(measure, some_measure(numbers, size).matrix), some_vector(numbers, size, 10 ** 20), measure)
 
 
-class StepsTest(Case):
+class EnergySolverTest(StepsCase):
     def check(self, task):
         """Checks all that points 37 and 40 say of the steps, and returns them."""
-        steps = list(EnergySolver(task).steps())
-        order = grade(task.matrix, task.side)
-        self.assertEqual([step.count for step in steps], list(range(order + 1)))
-        self.assert_same(steps[0].answer, Vector.zero(task.size))
-        rows, side, weights = table(task.matrix), entries(task.side), table(task.measure.matrix)
-        solution = slow_solve(rows, side)
+        steps = self.check_steps(EnergySolver(task))
+        rows, weights = table(task.matrix), table(task.measure.matrix)
+        solution = slow_solve(rows, entries(task.side))
         for step in steps:
             self.assertIs(type(step), EnergyStep)
             self.assertIsInstance(step, Step)
             self.assertEqual(sorted(vars(step)), ["answer", "count", "energy", "error", "residual", "square"])
-            residual = minus(side, slow_times(rows, entries(step.answer)))
-            self.assertEqual(entries(step.residual), residual)
-            self.assertEqual(fraction(step.square), slow_dot(weights, residual, residual))
-            self.assertTrue(lies_in_space(task.matrix, step.answer, task.side, step.count))
             missing = minus(solution, entries(step.answer))
             self.assertEqual(fraction(step.energy), slow_dot(weights, slow_times(rows, missing), missing))
             self.assertEqual(fraction(step.error), slow_dot(weights, missing, missing))
             # The energy is least where a move within the space changes it by the square of the move alone.
             for vector in space(task.matrix, task.side, step.count) if step.count > 0 else []:
                 self.assertEqual(slow_dot(weights, slow_times(rows, missing), vector), 0)
-            self.assertEqual(entries(step.answer) == solution, step.count == order)
         return steps
 
     def test_many(self):
@@ -95,12 +85,7 @@ class StepsTest(Case):
 
     def test_again(self):
         for task in list(samples(402))[::5]:
-            solver = EnergySolver(task)
-            self.assertTrue(inspect.isgenerator(solver.steps()))
-            first = [vars(step) for step in solver.steps()]
-            self.assertEqual([vars(step) for step in solver.steps()], first)
-            pairs = [(vars(one), vars(two)) for one, two in zip(solver.steps(), solver.steps())]
-            self.assertEqual(pairs, [(step, step) for step in first])
+            self.check_again(EnergySolver(task))
 
 
 class RefusedTest(Case):
